@@ -1,0 +1,1 @@
+"""Lagworks: boxes wired with lags, told by books of equations."""

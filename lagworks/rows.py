@@ -1,0 +1,60 @@
+"""Equations as rows: tuples of lag sums, one for each end, of any degree; nothing is looked at but by is_row."""
+
+from lagworks.numbers import inverse_of
+from lagworks.sums import added, is_sum, less, product, weighed
+
+
+def is_row(row, width, prime):
+    """Whether a tuple of tuples of numbers is an equation of this width that may be handed in."""
+    return len(row) == width and all([is_sum(one, prime) for one in row])
+
+
+def nought_row(width):
+    """The equation that is nought everywhere."""
+    return ((),) * width
+
+
+def is_nought(row):
+    """Whether an equation is nought everywhere."""
+    return all([one == () for one in row])
+
+
+def row_plus(row, other, prime):
+    """Two equations added, end by end."""
+    return tuple([added(one, more, prime) for one, more in zip(row, other)])
+
+
+def row_minus(row, other, prime):
+    """One equation less another one, end by end."""
+    return tuple([less(one, more, prime) for one, more in zip(row, other)])
+
+
+def row_times(row, by, prime):
+    """An equation multiplied by a lag sum."""
+    return tuple([product(one, by, prime) for one in row])
+
+
+def height(row):
+    """The greatest degree of the sums of an equation that is not nought everywhere."""
+    return max([len(one) for one in row]) - 1
+
+
+def head(row):
+    """The last end whose sum has the equation's height as its degree."""
+    longest = height(row) + 1
+    return max([end for end, one in enumerate(row) if len(one) == longest])
+
+
+def level_row(row, prime):
+    """The equation weighed so that the sum at its head is level."""
+    unit = inverse_of(row[head(row)][-1], prime)
+    return tuple([weighed(one, unit, prime) for one in row])
+
+
+def reading(row, sheet, place, prime):
+    """What the equation comes to at a place of a list of signs; it is kept there where this is 0."""
+    total = 0
+    for end, one in enumerate(row):
+        for later, residue in enumerate(one):
+            total += residue * sheet[place + later][end]
+    return total % prime
