@@ -18,6 +18,9 @@ BARRED_PARTS = ["dataclass", "overload", "contextmanager"]
 BARRED_NAMES = """register mro elements open input version_info with_traceback add_note attrgetter breakpoint builtins
 compile copyright credits delattr dir eval exec exit gc getattr globals hasattr help id importlib license locals
 methodcaller os quit setattr super type vars sys chr print""".split()
+METHODS = set("""append clear copy count endswith extend find get index insert isalnum isalpha isdigit islower isspace
+isupper items join keys ljust lower lstrip partition pop remove replace reverse rfind rjust rpartition rsplit rstrip
+setdefault split splitlines startswith strip update upper values zfill bit_length""".split())
 BARRED_NODES = (ast.Global, ast.AsyncFunctionDef, ast.AsyncFor, ast.AsyncWith, ast.Await, ast.Div, ast.MatMult,
                 ast.Import)
 
@@ -123,6 +126,40 @@ class Rows(unittest.TestCase):
                 self.assertNotIn(bound, BARRED_NAMES, (name, line))
                 self.assertNotIn(bound, ALL_BUILTINS, (name, line))
                 self.assertNotIn(bound, imported, (name, line))
+
+    def test_methods_and_attributes(self):
+        own_methods, own_attributes = set(), set()
+        for name, tree in trees():
+            for node in ast.walk(tree):
+                if isinstance(node, ast.ClassDef):
+                    own_methods |= {row.name for row in node.body if isinstance(row, ast.FunctionDef)}
+                if isinstance(node, ast.Attribute) and isinstance(node.ctx, ast.Store):
+                    own_attributes.add(node.attr)
+        self.assertEqual(own_methods & own_attributes, set())
+        for name, tree in trees():
+            for node in ast.walk(tree):
+                if isinstance(node, ast.Attribute):
+                    self.assertIn(node.attr, METHODS | own_methods | own_attributes, (name, node.lineno))
+
+    def test_module_values(self):
+        """Lists and dicts there hold no lists and dicts, and each name is bound once."""
+        for name, tree in trees():
+            for node in tree.body:
+                if isinstance(node, ast.Assign):
+                    held = [one for one in ast.walk(node.value) if isinstance(one, (ast.List, ast.Dict))]
+                    self.assertLessEqual(len(held), 1, (name, node.lineno))
+            bound = [told.id for node in tree.body if isinstance(node, ast.Assign) for told in node.targets]
+            bound += [node.name for node in tree.body if isinstance(node, (ast.FunctionDef, ast.ClassDef))]
+            bound += [told.name for node in tree.body if isinstance(node, ast.ImportFrom) for told in node.names]
+            self.assertEqual(len(bound), len(set(bound)), name)
+
+    def test_imports_name_the_file_that_defines(self):
+        own = {name[:-3]: {told for line, told in bound_names(tree)} for name, tree in trees()}
+        for name, tree in trees():
+            for node in tree.body:
+                if isinstance(node, ast.ImportFrom):
+                    for told in node.names:
+                        self.assertIn(told.name, own[node.module.split(".")[1]], (name, node.lineno))
 
     def test_builtins(self):
         for name, tree in trees():

@@ -1,0 +1,78 @@
+"""Rows of one width brought into form: by their leads, and as the one told form; nothing is looked at.
+
+The ends ahead of cut go ahead of all others: the lead of a row is its head among them, and only where the row is
+nought at them its head among the others. So the settled rows that are nought ahead of cut are those from which
+all follows that is nought there.
+"""
+
+from lagworks.rows import head, is_nought, level_row, row_minus, row_times
+from lagworks.sums import divided
+
+
+def lead(row, cut):
+    """The end at which a row that is not nought everywhere leads."""
+    front = row[:cut]
+    return cut + head(row[cut:]) if is_nought(front) else head(front)
+
+
+def lessened(row, other, end, prime):
+    """The row less the multiple of the other one that leaves it a lesser degree than the other's at an end."""
+    quotient, rest = divided(row[end], other[end], prime)
+    return row_minus(row, row_times(other, quotient, prime), prime)
+
+
+def settle(basis, row, cut, prime):
+    """Put one more row into a dict of rows by their leads, so that from it follows what followed, and the row."""
+    while not is_nought(row):
+        end = lead(row, cut)
+        if end not in basis:
+            basis[end] = row
+            return
+        # The one of the lesser degree stays: the other's lead falls, and leads can't fall for ever.
+        if len(row[end]) < len(basis[end][end]):
+            basis[end], row = row, basis[end]
+        row = lessened(row, basis[end], end, prime)
+
+
+def settled(rows, cut, prime):
+    """Rows with unlike leads, by their leads, from which the same follows as from the rows."""
+    basis = {}
+    for row in rows:
+        settle(basis, row, cut, prime)
+    return basis
+
+
+def rest_of(row, basis, cut, prime):
+    """What is left of a row by settled ones: at the lead of each its degree is lesser; nought where it follows."""
+    while True:
+        high = [(at < cut, len(row[at]), at) for at in basis if len(row[at]) >= len(basis[at][at])]
+        if not high:
+            return row
+        # The greatest one first: what is then put in stands below it.
+        end = max(high)[2]
+        row = lessened(row, basis[end], end, prime)
+
+
+def told_rows(rows, prime):
+    """The told form of rows."""
+    basis = settled(rows, 0, prime)
+    found = []
+    for end in sorted(basis):
+        others = {other: basis[other] for other in basis if other != end}
+        found.append(level_row(rest_of(basis[end], others, 0, prime), prime))
+    return found
+
+
+def unit_row(place, width):
+    """The row that is 1 at a place and nought at all others."""
+    return tuple([(1,) if end == place else () for end in range(width)])
+
+
+def marked(rows):
+    """Each row, and behind it the unit row of its place: so it is seen of which rows something was made."""
+    return [row + unit_row(place, len(rows)) for place, row in enumerate(rows)]
+
+
+def behind(basis, cut):
+    """Of settled rows those that are nought ahead of cut, without what stands there."""
+    return [basis[end][cut:] for end in sorted(basis) if end >= cut]
