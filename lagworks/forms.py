@@ -5,26 +5,26 @@ nought at them its head among the others. So the settled rows that are nought ah
 all follows that is nought there.
 """
 
-from lagworks.rows import head, is_nought, level_row, row_minus, row_times
+from lagworks.rows import head, is_nought, level_row, row_less
 from lagworks.sums import divided
 
 
-def lead(row, cut):
-    """The end at which a row that is not nought everywhere leads."""
-    front = row[:cut]
-    return cut + head(row[cut:]) if is_nought(front) else head(front)
+def lead(row, cut, weight):
+    """The end at which a row that is not nought everywhere leads where the ends ahead of cut count weight more."""
+    high = [(len(one) + weight if one and end < cut else len(one), end) for end, one in enumerate(row)]
+    return max(high)[1]
 
 
 def lessened(row, other, end, prime):
     """The row less the multiple of the other one that leaves it a lesser degree than the other's at an end."""
     quotient, rest = divided(row[end], other[end], prime)
-    return row_minus(row, row_times(other, quotient, prime), prime)
+    return row_less(row, other, quotient, prime)
 
 
-def settle(basis, row, cut, prime):
+def settle(basis, row, cut, weight, prime):
     """Put one more row into a dict of rows by their leads, so that from it follows what followed, and the row."""
     while not is_nought(row):
-        end = lead(row, cut)
+        end = lead(row, cut, weight)
         if end not in basis:
             basis[end] = row
             return
@@ -34,12 +34,23 @@ def settle(basis, row, cut, prime):
         row = lessened(row, basis[end], end, prime)
 
 
+def is_settled(basis, cut):
+    """Whether each row leads ahead of cut or is nought there."""
+    return all([end < cut or is_nought(basis[end][:cut]) for end in basis])
+
+
 def settled(rows, cut, prime):
     """Rows with unlike leads, by their leads, from which the same follows as from the rows."""
-    basis = {}
-    for row in rows:
-        settle(basis, row, cut, prime)
-    return basis
+    weight = 0
+    while True:
+        basis = {}
+        for row in rows:
+            settle(basis, row, cut, weight, prime)
+        if is_settled(basis, cut):
+            return basis
+        # Weighing the ends ahead of cut by ever more, not boundlessly at once, keeps the other degrees low.
+        rows = list(basis.values())
+        weight = 2 * weight + 1
 
 
 def rest_of(row, basis, cut, prime):
@@ -73,6 +84,12 @@ def marked(rows):
     return [row + unit_row(place, len(rows)) for place, row in enumerate(rows)]
 
 
-def behind(basis, cut):
-    """Of settled rows those that are nought ahead of cut, without what stands there."""
+def cleared(rows, cut, prime):
+    """Rows from which all follows that follows from these and is nought ahead of cut; what stands there is left out."""
+    basis = settled(rows, cut, prime)
     return [basis[end][cut:] for end in sorted(basis) if end >= cut]
+
+
+def related(rows, width, prime):
+    """The told form of all tuples of lag sums, one for each row, that times these and added are nought everywhere."""
+    return told_rows(cleared(marked(rows), width, prime), prime)

@@ -1,7 +1,7 @@
 """Equations as rows: tuples of lag sums, one for each end, of any degree; nothing is looked at but by is_row."""
 
 from lagworks.numbers import inverse_of
-from lagworks.sums import added, is_sum, less, product, weighed
+from lagworks.sums import is_sum, less_times, weighed
 
 
 def is_row(row, width, prime):
@@ -19,19 +19,9 @@ def is_nought(row):
     return all([one == () for one in row])
 
 
-def row_plus(row, other, prime):
-    """Two equations added, end by end."""
-    return tuple([added(one, more, prime) for one, more in zip(row, other)])
-
-
-def row_minus(row, other, prime):
-    """One equation less another one, end by end."""
-    return tuple([less(one, more, prime) for one, more in zip(row, other)])
-
-
-def row_times(row, by, prime):
-    """An equation multiplied by a lag sum."""
-    return tuple([product(one, by, prime) for one in row])
+def row_less(row, other, by, prime):
+    """An equation less another one multiplied by a lag sum."""
+    return tuple([less_times(one, more, by, prime) for one, more in zip(row, other)])
 
 
 def height(row):

@@ -47,6 +47,18 @@ def product(one, other, prime):
     return trimmed([number % prime for number in found])
 
 
+def less_times(one, other, by, prime):
+    """One lag sum less the product of two others, made in one go: most of the reckoning is done here."""
+    if not other or not by:
+        return one
+    found = list(one) + [0] * (len(other) + len(by) - 1 - len(one))
+    for place, weight in enumerate(by):
+        if weight != 0:
+            for later, residue in enumerate(other):
+                found[place + later] -= weight * residue
+    return trimmed([number % prime for number in found])
+
+
 def divided(one, other, prime):
     """(quotient, rest) of one by other, which is not nought."""
     top = len(other) - 1

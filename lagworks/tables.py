@@ -1,9 +1,9 @@
 """Tables: lists of equations of one width, and what follows from them."""
 
 from lagworks.errors import BadEnds, BadTable, BadWidth
-from lagworks.forms import behind, marked, rest_of, settled, told_rows
+from lagworks.forms import cleared, marked, related, rest_of, settled, told_rows
 from lagworks.numbers import LEAST, check_prime
-from lagworks.rows import is_nought, is_row, nought_row, row_minus
+from lagworks.rows import is_nought, is_row, nought_row, row_less
 
 MOST_WIDE = 12
 MOST_ROWS = 12
@@ -60,7 +60,7 @@ def paper(rows, equation, width, *, prime=LEAST):
     if not is_nought(rest[:width]):
         return None
     # What was taken off the equation to leave nought has left its multiples, below nought, behind it.
-    return list(row_minus(nought_row(len(rows)), rest[width:], prime))
+    return list(row_less(nought_row(len(rows)), rest[width:], (1,), prime))
 
 
 def without(rows, width, gone, *, prime=LEAST):
@@ -71,10 +71,10 @@ def without(rows, width, gone, *, prime=LEAST):
         raise BadEnds("some end must be left")
     order = list(gone) + [end for end in range(width) if end not in gone]
     ordered = [tuple([row[end] for end in order]) for row in rows]
-    return told_rows(behind(settled(ordered, len(gone), prime), len(gone)), prime)
+    return told_rows(cleared(ordered, len(gone), prime), prime)
 
 
 def relations(rows, width, *, prime=LEAST):
     """The told form of all tuples of lag sums, one for each row, that times these and added are nought everywhere."""
     check_table(rows, width, prime)
-    return told_rows(behind(settled(marked(rows), width, prime), width), prime)
+    return related(rows, width, prime)

@@ -1,7 +1,9 @@
 """What several test files need: drawn lag sums, plain reckoning to compare with, and refusals."""
 
+import itertools
 import random
 
+from lagworks.books import Book
 from lagworks.errors import LagError, WorksError
 
 ALL_PRIMES = [n for n in range(2, 98) if all(n % k for k in range(2, n))]
@@ -265,3 +267,247 @@ def too_great_wirings():
             many, wrong = (word, (many,) * 12), (word, (wrong,) * 12)
         found += [many, wrong, ("turned", many)]
     return found
+
+
+def drawn_even_row(draw, prime, width, most):
+    """An equation whose sums mostly have one degree, so that many ends may be its head."""
+    long = draw.randint(1, most)
+    return tuple(cut([draw.randrange(prime) for place in range(long)], prime) for end in range(width))
+
+
+def drawn_book(draw, ends=4, most=3, primes=(2, 2, 3, 5, 97)):
+    """A book of at most so many ends, its sums of at most so many residues."""
+    prime, width = draw.choice(primes), draw.randint(0, ends)
+    left, drawn = draw.randint(0, width), draw.choice([drawn_row, drawn_even_row])
+    rows = [drawn(draw, prime, width, most) for k in range(draw.randint(0, width))]
+    return Book(rows, left=left, right=width - left, prime=prime)
+
+
+def drawn_books(seed, many, **limits):
+    """(draw, book), drawn the same each time."""
+    draw = random.Random(seed)
+    for k in range(many):
+        yield draw, drawn_book(draw, **limits)
+
+
+def width_of(book):
+    return sum(book.ends())
+
+
+def greatest(book):
+    """The greatest told height, 0 without equations."""
+    return max([head_and_height(row)[1] for row in book.equations()], default=0)
+
+
+def all_signs(many, prime):
+    """All tuples of so many residues."""
+    return list(itertools.product(range(prime), repeat=many))
+
+
+def drawn_sign(draw, many, prime):
+    return tuple(draw.randrange(prime) for k in range(many))
+
+
+def plain_reading(row, sheet, place, prime):
+    """What [4] says of an equation at a place."""
+    return sum(n * sheet[place + i][end] for end, one in enumerate(row) for i, n in enumerate(one)) % prime
+
+
+def keeps(row, sheet, prime):
+    """Whether a sheet keeps an equation wherever it is long enough."""
+    top = max(len(one) for one in row) - 1
+    return not any(plain_reading(row, sheet, place, prime) for place in range(len(sheet) - top))
+
+
+def echelon(vectors, prime):
+    """The same span by vectors whose first numbers that are not 0 are 1, at unlike places, and 0 in all others."""
+    found = {}
+    for vector in vectors:
+        vector = list(vector)
+        for at, other in found.items():
+            if vector[at]:
+                by = vector[at]
+                vector = [(a - by * b) % prime for a, b in zip(vector, other)]
+        at = next((k for k, n in enumerate(vector) if n), None)
+        if at is not None:
+            unit = pow(vector[at], -1, prime)
+            vector = [n * unit % prime for n in vector]
+            for other in found:
+                if found[other][at]:
+                    by = found[other][at]
+                    found[other] = [(a - by * b) % prime for a, b in zip(found[other], vector)]
+            found[at] = vector
+    return found
+
+
+def spans(basis, vector, prime):
+    """Whether a vector is within the span of an echelon."""
+    for at, other in basis.items():
+        by = vector[at]
+        vector = [(a - by * b) % prime for a, b in zip(vector, other)] if by else vector
+    return not any(vector)
+
+
+def solutions(rows, many, prime):
+    """Vectors whose span is all of so many residues whose products with each row, added, are 0."""
+    basis = echelon(rows, prime)
+    found = []
+    for free in range(many):
+        if free not in basis:
+            vector = [0] * many
+            vector[free] = 1
+            for at, row in basis.items():
+                vector[at] = -row[free] % prime
+            found.append(vector)
+    return found
+
+
+def windows(rows, width, shown, places, prime):
+    """An echelon of all beginnings of strands that keep the rows, of so many places, at the shown ends, laid flat.
+
+    As many places more as all heights together are looked at: what can go on so far can go on for ever.
+    """
+    heights = [max(len(one) for one in row) - 1 for row in rows if any(row)]
+    long = places + sum(heights) + 1
+    bound = []
+    for row in rows:
+        for start in range(long - max(len(one) for one in row) + 1 if any(row) else 0):
+            flat = [0] * (width * long)
+            for end, one in enumerate(row):
+                for i, n in enumerate(one):
+                    flat[(start + i) * width + end] = n
+            bound.append(flat)
+    found = solutions(bound, width * long, prime)
+    return echelon([[one[t * width + end] for t in range(places) for end in shown] for one in found], prime)
+
+
+def flat(sheet):
+    return [n for sign in sheet for n in sign]
+
+
+def plain_ends(box):
+    """(left, right) of a box, as [6] says."""
+    word = box[0]
+    return {"copy": lambda: (1, box[1]), "sum": lambda: (box[1], 1), "mix": lambda: (len(box[1][0]), len(box[1])),
+            "shuffle": lambda: (len(box[1]),) * 2}.get(word, lambda: (1, 1))()
+
+
+def plain_rows(box, prime):
+    """What [6] says of a box, as equations on its left and right ends."""
+    left, right = plain_ends(box)
+    found = []
+    for end in range(right):
+        word, row = box[0], [[0, 0] for k in range(left + right)]
+        row[left + end][0] = -1
+        if word == "lag":
+            row = [[1, 0], [0, -1]]
+        elif word == "shuffle":
+            row[box[1][end]][0] = 1
+        else:
+            for k in range(left):
+                row[k][0] = {"weigh": lambda: box[1], "mix": lambda: box[1][end][k]}.get(word, lambda: 1)()
+        found.append(tuple(cut(one, prime) for one in row))
+    return found
+
+
+def strands(wiring, prime):
+    """(rows, many, left, right): equations of all boxes on all strands, and which strands stand on the ends."""
+    same, boxes = [], []
+
+    def name(k):
+        while same[k] != k:
+            k = same[k]
+        return k
+
+    def join(one, other):
+        same[name(one)] = name(other)
+
+    def walk(part):
+        if part[0] in ("then", "beside"):
+            sides = [walk(one) for one in part[1]]
+            if part[0] == "beside":
+                return [k for left, right in sides for k in left], [k for left, right in sides for k in right]
+            for (left, right), (more, last) in zip(sides, sides[1:]):
+                for one, other in zip(right, more, strict=True):
+                    join(one, other)
+            return sides[0][0], sides[-1][1]
+        if part[0] == "turned":
+            left, right = walk(part[1])
+            return right, left
+        if part[0] == "ring":
+            left, right = walk(part[1])
+            join(left[-1], right[-1])
+            return left[:-1], right[:-1]
+        ends = [len(same) + k for k in range(sum(plain_ends(part)))]
+        same.extend(ends)
+        boxes.append((part, ends))
+        return ends[:plain_ends(part)[0]], ends[plain_ends(part)[0]:]
+
+    left, right = walk(wiring)
+    number = {k: at for at, k in enumerate(sorted({name(k) for k in range(len(same))}))}
+    rows = []
+    for box, ends in boxes:
+        for row in plain_rows(box, prime):
+            full = [()] * len(number)
+            for end, one in zip(ends, row, strict=True):
+                at = number[name(end)]
+                full[at] = plain_plus(full[at], one, prime)
+            rows.append(tuple(full))
+    return rows, len(number), [number[name(k)] for k in left], [number[name(k)] for k in right]
+
+
+def drawn_mix(draw, left, right):
+    return "mix", tuple(tuple(draw.choice([0, 1, 2, 96, draw.randint(0, 96)]) for k in range(left))
+                        for row in range(right))
+
+
+def drawn_fitting_box(draw, left):
+    """A box, or one turned, or few of them, with so many left ends."""
+    if left == 0:
+        return draw.choice([("sum", 0), turned(("copy", 0)), then(turned(("copy", 0)), ("copy", draw.randint(0, 3)))])
+    if left == 1:
+        return draw.choice([("wire",), ("lag",), ("lag",), turned(("lag",)), ("weigh", draw.randint(0, 96)),
+                            ("copy", draw.randint(0, 3)), turned(("sum", draw.randint(0, 3))), turned(("sum", 0)),
+                            drawn_mix(draw, 1, draw.randint(1, 2))])
+    found = [("shuffle", tuple(draw.sample(range(left), left))), drawn_mix(draw, left, draw.randint(1, 3)),
+             turned(drawn_mix(draw, draw.randint(1, 3), left))]
+    found += [("sum", left), turned(("copy", left))] if left <= 4 else []
+    return draw.choice(found)
+
+
+def right_ends(wiring):
+    """How many right ends a wiring that fits has."""
+    return len(strands(wiring, 2)[3])
+
+
+def drawn_fit(draw, left, deep):
+    """A wiring with so many left ends, all of whose ends fit."""
+    kind = draw.choice(["box", "then", "then", "beside", "turned", "ring"]) if deep > 1 else "box"
+    if kind == "then":
+        first = drawn_fit(draw, left, deep - 1)
+        return then(first, drawn_fit(draw, right_ends(first), deep - 1)) if right_ends(first) <= 4 else first
+    if kind == "beside":
+        above = draw.randint(0, left)
+        return beside(drawn_fit(draw, above, deep - 1), drawn_fit(draw, left - above, deep - 1))
+    if kind == "turned":
+        inner = drawn_fit(draw, draw.randint(0, 3), deep - 1)
+        if right_ends(inner) == left:
+            return turned(inner)
+        if left and right_ends(inner):
+            return turned(then(inner, drawn_mix(draw, right_ends(inner), left)))
+    if kind == "ring":
+        inner = drawn_fit(draw, left + 1, deep - 1)
+        if right_ends(inner):
+            return ring(inner)
+    return drawn_fitting_box(draw, left)
+
+
+def drawn_fits(seed, many, deep=4):
+    """(draw, prime, wiring): wirings that fit, of at most twelve ends on a side and not too many strands."""
+    draw = random.Random(seed)
+    while many:
+        wiring, prime = drawn_fit(draw, draw.randint(0, 3), deep), draw.choice([2, 2, 3, 5, 97])
+        rows, strand_count, left, right = strands(wiring, prime)
+        if within_counts(wiring) and strand_count <= 20 and len(left) + len(right) <= 6:
+            many -= 1
+            yield draw, prime, wiring

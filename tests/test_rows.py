@@ -3,9 +3,8 @@
 import random
 import unittest
 
-from lagworks.rows import (head, height, is_nought, is_row, level_row, nought_row, reading, row_minus, row_plus,
-                           row_times)
-from tests.helper import drawn_sum, plain_minus, plain_plus, plain_times
+from lagworks.rows import head, height, is_nought, is_row, level_row, nought_row, reading, row_less
+from tests.helper import drawn_sum, multiplied, plain_minus, plain_times
 
 
 def drawn_rows(seed, many):
@@ -20,18 +19,16 @@ def drawn_rows(seed, many):
 class Reckoning(unittest.TestCase):
     def test_end_by_end(self):
         for prime, row, other, by in drawn_rows("rows", 400):
-            pairs = list(zip(row, other))
-            self.assertEqual(row_plus(row, other, prime), tuple(plain_plus(a, b, prime) for a, b in pairs))
-            self.assertEqual(row_minus(row, other, prime), tuple(plain_minus(a, b, prime) for a, b in pairs))
-            self.assertEqual(row_times(row, by, prime), tuple(plain_times(a, by, prime) for a in row))
+            less = tuple(plain_minus(a, plain_times(b, by, prime), prime) for a, b in zip(row, other))
+            self.assertEqual(row_less(row, other, by, prime), less)
+            self.assertEqual(row_less(row, other, (), prime), row)
 
     def test_nought(self):
         self.assertEqual(nought_row(3), ((), (), ()))
         self.assertEqual(nought_row(0), ())
         for prime, row, other, by in drawn_rows("nought rows", 100):
-            self.assertTrue(is_nought(row_minus(row, row, prime)))
+            self.assertTrue(is_nought(row_less(row, row, (1,), prime)))
             self.assertEqual(is_nought(row), row == nought_row(len(row)))
-            self.assertTrue(is_nought(row_times(row, (), prime)))
         self.assertFalse(is_nought(((), (1,), ())))
 
 
@@ -47,7 +44,7 @@ class Heads(unittest.TestCase):
             if not is_nought(row):
                 found = level_row(row, prime)
                 self.assertEqual(found[head(found)][-1], 1)
-                self.assertEqual(row_times(found, row[head(row)][-1:], prime), row)
+                self.assertEqual(multiplied(found, row[head(row)][-1:], prime), row)
 
 
 class Looking(unittest.TestCase):
@@ -73,7 +70,7 @@ class Looking(unittest.TestCase):
         for prime, row, other, by in drawn_rows("later rows", 100):
             sheet = [tuple(draw.randrange(prime) for end in row) for place in range(20)]
             later = sum(weight * reading(row, sheet, 3 + shift, prime) for shift, weight in enumerate(by))
-            self.assertEqual(reading(row_times(row, by, prime), sheet, 3, prime), later % prime)
+            self.assertEqual(reading(multiplied(row, by, prime), sheet, 3, prime), later % prime)
 
 
 if __name__ == "__main__":
