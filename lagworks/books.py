@@ -105,6 +105,11 @@ def book_with(rows, left, right, prime):
     return found
 
 
+def width_of(book):
+    """How many ends a book has."""
+    return book.left + book.right
+
+
 def check_primes(one, other):
     """Refuse two books that are not of one prime."""
     if one.base != other.base:

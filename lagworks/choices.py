@@ -1,15 +1,10 @@
 """Ends that lead: which chosen ends of a book have numbers that may be any ones and make all others."""
 
+from lagworks.books import width_of
 from lagworks.forms import told_rows
 from lagworks.rows import head
 from lagworks.sheets import run_out
 from lagworks.tables import check_ends
-
-
-def width_of(book):
-    """How many ends a book has."""
-    left, right = book.ends()
-    return left + right
 
 
 def others_of(book, chosen):

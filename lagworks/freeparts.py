@@ -1,7 +1,6 @@
 """The free part of a book, the columns that draw its strands, and the swing that it lacks."""
 
-from lagworks.books import book_with
-from lagworks.choices import width_of
+from lagworks.books import book_with, width_of
 from lagworks.forms import cleared, related
 from lagworks.rows import level_row
 from lagworks.sums import divided, product, shared
@@ -25,7 +24,7 @@ def drawn(book):
 def free_part(book):
     """The book of the equations some multiple of which follows."""
     left, right = book.ends()
-    return book_with(crossing(drawn(book), left + right, book.prime()), left, right, book.prime())
+    return book_with(crossing(drawn(book), width_of(book), book.prime()), left, right, book.prime())
 
 
 def order_of(equation, rows, prime):

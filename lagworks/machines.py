@@ -1,6 +1,7 @@
 """Machines of the fewest lags that run just what a book lets, and engines that run them sign by sign."""
 
-from lagworks.choices import led, others_of, width_of
+from lagworks.books import width_of
+from lagworks.choices import led, others_of
 from lagworks.errors import BadStart, Full, Nothing, NotLed
 from lagworks.parts import LAG
 from lagworks.rows import height
@@ -193,7 +194,7 @@ def wired(machine):
     book = machine.book()
     left, right = book.ends()
     many = machine.lags()
-    if left + right > MOST_WIRED or many > MOST_WIRED:
+    if width_of(book) > MOST_WIRED or many > MOST_WIRED:
         raise Full("only machines of at most 6 ends and 6 lags are wired")
     rows = book.equations()
     slots = [(at, place) for at, row in enumerate(rows) for place in range(1, height(row) + 1)]

@@ -5,6 +5,7 @@ import random
 
 from lagworks.books import Book
 from lagworks.errors import LagError, WorksError
+from lagworks.works import Works
 
 ALL_PRIMES = [n for n in range(2, 98) if all(n % k for k in range(2, n))]
 
@@ -159,6 +160,7 @@ def ring(part):
     return "ring", part
 
 
+WIRE, LAG = ("wire",), ("lag",)
 WORDS = ["wire", "lag", "weigh", "copy", "sum", "mix", "shuffle"]
 
 
@@ -511,3 +513,33 @@ def drawn_fits(seed, many, deep=4):
         if within_counts(wiring) and strand_count <= 20 and len(left) + len(right) <= 6:
             many -= 1
             yield draw, prime, wiring
+
+
+def use(name):
+    return "use", name
+
+
+def laid(prime=5, **wirings):
+    """Works with these wirings."""
+    works = Works(prime=prime)
+    for name, wiring in wirings.items():
+        works.lay(name, wiring)
+    return works
+
+
+def stood(works):
+    """All that works tell of themselves."""
+    return (works.prime(), works.names(), [works.wiring(name) for name in works.names()], works.watches(),
+            [works.sheet(number) for number, name in works.watches()], works.coming(), works.deeds(), len(works),
+            repr(works))
+
+
+def refuse(test, works, kind, word, *handed):
+    """Asserts a refusal by the method and by do, and that nothing is changed; the error."""
+    before, twin = stood(works), works.twin()
+    found = refused(test, kind, getattr(works, word), *handed)
+    again = refused(test, kind, works.do, (word, *handed))
+    test.assertEqual(vars(again), vars(found))
+    test.assertEqual(stood(works), before)
+    test.assertEqual(works, twin)
+    return found
