@@ -5,7 +5,7 @@ nought at them its head among the others. So the settled rows that are nought ah
 all follows that is nought there.
 """
 
-from lagworks.rows import head, is_nought, level_row, row_less
+from lagworks.rows import is_nought, level_row, row_less
 from lagworks.sums import divided
 
 

@@ -5,7 +5,7 @@ from lagworks.choices import led, others_of
 from lagworks.errors import BadStart, Full, Nothing, NotLed
 from lagworks.parts import LAG
 from lagworks.rows import height
-from lagworks.sheets import check_sheet, is_sign, run_out
+from lagworks.sheets import check_sheet, is_sign
 
 MOST_WIRED = 6
 
@@ -85,16 +85,14 @@ class Machine:
         """Contents from which the machine tells the sheet; None where it is not let."""
         if not self.of_book.lets(sheet):
             return None
-        prime = self.of_book.prime()
-        more = max([0] + self.of_book.heights()) - len(sheet)
-        wished = list(sheet) + [(0,) * width_of(self.of_book)] * more
-        signs = run_out(self.rules, wished, prime)
+        # Behind the sheet any numbers do: only such are read as no equation makes of others.
+        signs = list(sheet) + [(0,) * width_of(self.of_book)] * max([0] + self.of_book.heights())
         found = []
         for end, k in self.slots:
             row = self.rules[end]
             # What the equation came to ahead of the sheet is what its later places, on the sheet, must make up for.
             later = [weighed_sign(row, place, signs[place - k]) for place in range(k, height(row) + 1)]
-            found.append(-sum(later) % prime)
+            found.append(-sum(later) % self.of_book.prime())
         return tuple(found)
 
     def __len__(self):

@@ -24,7 +24,7 @@ def page(works):
     for number, name in works.watches():
         rows.append(f"watch {number} {name}")
         rows.extend([sign_row(sign) for sign in works.sheet(number)])
-    return "".join([f"{row}\n" for row in rows])
+    return "".join([row + "\n" for row in rows])
 
 
 class Reader:
@@ -77,8 +77,9 @@ def read_watch(reader, things):
     if not reader.last < number < reader.limit:
         raise BadText("the number of a watch does not rise, or is not less than the one that comes next")
     # The numbers between belonged to watches that are closed.
-    reader.stand = copy_of(reader.stand)
-    reader.stand.following = number
+    stand = copy_of(reader.stand)
+    stand.following = number
+    reader.stand = stand
     do_read(reader, ("watch", things[1]))
     reader.last = number
 
@@ -115,7 +116,8 @@ def read_page(text):
             raise BadPage("the row is not so written, or is refused there", at) from None
     if rows[-1] or reader.stand is None:
         raise BadPage("the row lacks its line feed", len(rows) - 1)
-    reader.stand.following = reader.limit
-    found = Works(prime=reader.stand.base)
-    found.stand = reader.stand
+    stand = reader.stand
+    stand.following = reader.limit
+    found = Works(prime=stand.base)
+    found.stand = stand
     return found

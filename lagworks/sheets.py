@@ -22,7 +22,7 @@ def is_kept(row, sheet, prime):
 
 
 def run_out(rules, wished, prime):
-    """The let sheet that has the wished numbers wherever they are free.
+    """The let sheet that has the wished numbers wherever they are free; elsewhere they are 0.
 
     The rules are equations in told form, but for the order of the ends, by their heads: at the places from its height
     on the number at a head is what the numbers ahead of it, or at that place at heads ahead of it, make it.
@@ -32,6 +32,5 @@ def run_out(rules, wished, prime):
         for end in rules:
             start = place - height(rules[end])
             if start >= 0:
-                found[place][end] = 0
                 found[place][end] = -reading(rules[end], found, start, prime) % prime
     return [tuple(sign) for sign in found]

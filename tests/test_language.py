@@ -161,6 +161,24 @@ class Rows(unittest.TestCase):
                     for told in node.names:
                         self.assertIn(told.name, own[node.module.split(".")[1]], (name, node.lineno))
 
+    def test_beside_own_comparing(self):
+        """Classes compare and have lengths: no generators in any and the like, nothing sorted in place."""
+        for name, tree in trees():
+            for node in ast.walk(tree):
+                if isinstance(node, ast.Call) and isinstance(node.func, ast.Name):
+                    if node.func.id in ("any", "all", "min", "max", "sum", "sorted"):
+                        self.assertFalse(any(isinstance(one, ast.GeneratorExp) for one in node.args), (name, node.lineno))
+                if isinstance(node, ast.Attribute):
+                    self.assertNotEqual(node.attr, "sort", (name, node.lineno))
+
+    def test_double_underscore_methods_change_nothing(self):
+        kinds = (ast.Assign, ast.AugAssign, ast.Delete, ast.NamedExpr)
+        for name, tree in trees():
+            for node in ast.walk(tree):
+                if isinstance(node, ast.FunctionDef) and node.name in ("__eq__", "__repr__", "__str__", "__len__"):
+                    self.assertFalse(any(isinstance(one, kinds) for one in ast.walk(node)), (name, node.lineno))
+                    self.assertIsInstance(node.body[-1], ast.Return, (name, node.lineno))
+
     def test_builtins(self):
         for name, tree in trees():
             bound = {told for line, told in bound_names(tree)}

@@ -219,6 +219,7 @@ class Refusals(unittest.TestCase):
     def test_places(self):
         self.bad(self.rows(4, "watch 3 b", "lay c wire"), 5)
         self.bad(GOOD + "lay c wire\n", 10)
+        self.bad("prime 2 next 2\nlay a wire\nwatch 1 a\nlay b wire\n", 3)
         self.bad(self.rows(4, "sign 1 2"), 4)
         self.bad("prime 5 next 1\nsign\n", 1)
         self.bad("prime 5 next 1\nlay a ring(wire)\nsign\n", 2)
@@ -239,6 +240,8 @@ class Refusals(unittest.TestCase):
         # Number 11 stands already behind this one.
         self.bad(self.rows(7, "watch 11 a"), 8)
         self.bad("prime 2 next 1\nlay a wire\nwatch 1 a\n", 2)
+        self.bad("prime 2 next 9\nlay a wire\nwatch 0 a\n", 2)
+        self.bad("prime 2 next 9\nlay a wire\nwatch 1 a\nwatch 1 a\n", 3)
         self.assertEqual(read_page("prime 2 next 999999\nlay a wire\nwatch 999998 a\n").watches(), [(999998, "a")])
 
     def test_sign_rows(self):
